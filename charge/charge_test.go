@@ -109,6 +109,13 @@ func TestWithoutTheVolts(t *testing.T) {
 	is(t, b, sp(4998, 5012), sp(4900, 5110), sp(4998, 5012), true)
 }
 
+// Volts that say nothing are no third one, not even one that says 0.
+func TestNothingSaidIsNotZero(t *testing.T) {
+	b := charge.New(config(), sp(0, 5), true)
+	step(t, b, stale, fresh(0), fresh(-9))
+	is(t, b, sp(7, 7), sp(0, 7), sp(7, 16), true)
+}
+
 func TestSetIsClamped(t *testing.T) {
 	b := charge.New(config(), sp(100, 100), true)
 	b.Step(stale, fresh(99), fresh(99)) // 0 to 3

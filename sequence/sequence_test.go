@@ -76,6 +76,8 @@ func TestSafe(t *testing.T) {
 		{0, 12, 32, false}, // what may be closed joins two by itself
 		{0, 4, 1, true},    // B2 at R, Gen at L
 		{0, 20, 1, false},  // and the tie
+		{0, 1, 3, false},   // what may be closed is to be closed
+		{0, 1, 1, true},    //
 		{0, 4, 17, false},  //
 		{0, 96, 5, false},  // by way of E
 		{17, 0, 21, false}, //

@@ -117,6 +117,12 @@ func TestReadErrorsInOrder(t *testing.T) {
 		{summed(with(10, 0xff)), api.ErrRange},
 		{summed(with(14, 0x31)), api.ErrRange}, // Lo above Hi
 		{summed(with(22, 0x41)), api.ErrRange}, // Hi above Most
+		{summed(with(18, 1)), api.ErrRange},
+		{summed(with(18, 0xff)), api.ErrRange},
+		{summed(with(26, 0x80)), api.ErrRange},
+		{summed(with(26, 0x01)), api.ErrRange},
+		{summed(with(34, 0x80)), api.ErrRange},
+		{summed(with(34, 0x01)), api.ErrRange},
 		{summed(with(37, 1)), api.ErrRange},
 		{summed(with(41, 1)), api.ErrRange},
 	} {

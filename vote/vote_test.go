@@ -99,6 +99,9 @@ func TestCoverEdges(t *testing.T) {
 			t.Errorf("%d: %v, %v, want %v, %v", i, got, ok, c.want, c.ok)
 		}
 	}
+	if got, ok := vote.Cover(1, api.Span{Lo: 5, Hi: 3}); ok || got != (api.Span{}) {
+		t.Errorf("of a span without numbers: %v, %v", got, ok)
+	}
 	if got := vote.Most(); got != 0 {
 		t.Errorf("Most of nothing: %d", got)
 	}
