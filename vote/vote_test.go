@@ -102,6 +102,9 @@ func TestCoverEdges(t *testing.T) {
 	if got, ok := vote.Cover(1, api.Span{Lo: 5, Hi: 3}); ok || got != (api.Span{}) {
 		t.Errorf("of a span without numbers: %v, %v", got, ok)
 	}
+	if got, ok := vote.Cover(1, api.Span{Lo: 5, Hi: 3}, api.Span{Lo: 4, Hi: 4}); !ok || got != (api.Span{Lo: 4, Hi: 4}) {
+		t.Errorf("beside a span without numbers: %v, %v", got, ok)
+	}
 	if got := vote.Most(); got != 0 {
 		t.Errorf("Most of nothing: %d", got)
 	}
