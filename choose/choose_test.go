@@ -175,6 +175,55 @@ func TestFits(t *testing.T) {
 	}
 }
 
+// beyond are bits that are no contactor's.
+var beyond = []int{1 << 7, 1 << 9, 1 << 31, 1 << 62, math.MinInt, -128}
+
+func TestOtherBitsOfFactsCountForNothing(t *testing.T) {
+	r := rand.New(rand.NewSource(23))
+	for range 200 {
+		f := some(r)
+		wide := f
+		wide.Can |= beyond[r.Intn(len(beyond))]
+		wide.Must |= beyond[r.Intn(len(beyond))]
+		wide.Now |= beyond[r.Intn(len(beyond))]
+		for mask := range 128 {
+			if got, want := choose.Fits(wide, mask), choose.Fits(f, mask); got != want {
+				t.Fatalf("Fits(%v, %b) = %v", wide, mask, got)
+			}
+			if got, want := choose.Score(wide, mask), choose.Score(f, mask); got != want {
+				t.Fatalf("Score(%v, %b) = %v, want %v", wide, mask, got, want)
+			}
+		}
+		best, found := choose.Best(f)
+		if got, ok := choose.Best(wide); got != best || ok != found {
+			t.Fatalf("Best(%v) = %b, %v, want %b, %v", wide, got, ok, best, found)
+		}
+	}
+}
+
+func TestMustBeyondContactors(t *testing.T) {
+	for _, bit := range beyond {
+		f := facts()
+		f.Must = bit
+		for _, mask := range []int{0, gc, xc | tie | el} {
+			if !choose.Fits(f, mask) {
+				t.Errorf("Must %b: Fits(%b) is false", bit, mask)
+			}
+		}
+		if choose.Fits(f, gc|bc1) || choose.Fits(f, bit) || choose.Fits(f, bit|gc) {
+			t.Errorf("Must %b: what can't be fits", bit)
+		}
+		f.Must = bit | el
+		if choose.Fits(f, gc) || !choose.Fits(f, gc|el) {
+			t.Errorf("Must %b: EL isn't asked for", f.Must)
+		}
+		f.Must, f.Can = bit, 0
+		if !choose.Fits(f, 0) || choose.Fits(f, gc) {
+			t.Errorf("Must %b: other than nothing can be closed", f.Must)
+		}
+	}
+}
+
 func TestScore(t *testing.T) {
 	f := facts()
 	f.Now = gc

@@ -70,8 +70,14 @@ func TestBytesTooLong(t *testing.T) {
 		if b, err := frame.Bytes(f); err != api.ErrLong || len(b) != 0 {
 			t.Errorf("%d: % x, %v", n, b, err)
 		}
-		if got := frame.Size(f); got != 0 {
-			t.Errorf("Size of what is no frame: %d", got)
+	}
+}
+
+func TestSizeOfAnyLength(t *testing.T) {
+	for _, n := range []int{0, 1, 31, 32, 33, 34, 100, 255, 256, 257, 1000, 1 << 16} {
+		f := api.Frame{ID: 3, Seq: 4, Body: make([]byte, n, n+9)}
+		if got, want := frame.Size(f), 6+n; got != want {
+			t.Errorf("a body of %d: Size %d, want %d", n, got, want)
 		}
 	}
 }
